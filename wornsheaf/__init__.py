@@ -1,0 +1,1 @@
+"""Wornsheaf: sheets that are copied and worn by copying."""
