@@ -103,3 +103,112 @@ def ends_by_search(sharpnesses, breadth):
         return known[state]
 
     return sorted(ends(tuple(sorted(sharpnesses))))
+
+
+def states_after(state, breadth):
+    """Return all states that one deed leaves; a state is a sorted tuple of rows."""
+    rows = [list(row) for row in state]
+    found = set()
+    for source, (sharpness, record) in enumerate(rows):
+        fainter = [k for k, row in enumerate(rows) if row[0] < sharpness]
+        for many in range(1, min(breadth, len(fainter)) + 1):
+            for targets in combinations(fainter, many):
+                found.add(tuple(sorted(after([tuple(row) for row in rows], (source, targets)))))
+    return found
+
+
+KNOWN_FINALS = {}
+
+
+def finals(rows, breadth):
+    """Return all `(end, shares)` of complete logs, by trying every deed.
+
+    The shares are a sorted tuple of pairs `(record, number)`.
+    """
+    state = tuple(sorted(rows))
+    known = KNOWN_FINALS.setdefault(breadth, {})
+    if state not in known:
+        found = set()
+        if state[0][0] == state[-1][0]:
+            records = [record for _, record in state]
+            shares = tuple((record, records.count(record)) for record in sorted(set(records)))
+            found.add((state[0][0], shares))
+        for later in states_after(state, breadth):
+            found |= finals(later, breadth)
+        known[state] = found
+    return known[state]
+
+
+def relabelled(sheaf, records):
+    """Return the sheaf with these records instead of its own."""
+    return Sheaf(list(zip(sharpnesses_of(sheaf), records)))
+
+
+def small_record_sheaves(most_sheets, most_sharpness, records="ab"):
+    """Yield small sheaves with all ways to spread these records over them."""
+    for sheaf in small_sheaves(most_sheets, most_sharpness):
+        for told in product(records, repeat=len(sheaf)):
+            yield relabelled(sheaf, told)
+
+
+def all_demands(records, most):
+    """Yield all demands from 0 to the most for these records."""
+    for numbers in product(range(most + 1), repeat=len(records)):
+        yield dict(zip(records, numbers))
+
+
+def shares_at(sheaf, end, breadth):
+    """Return the dicts of shares of all complete logs with that end, by search."""
+    return [dict(shares) for found, shares in finals(sheaf.rows(), breadth) if found == end]
+
+
+def meets(shares, demands):
+    return all(shares.get(record, 0) >= demand for record, demand in demands.items())
+
+
+def cap_by_words(sharpness, end, breadth):
+    return (breadth + 1) ** (sharpness - end) if sharpness >= end else 0
+
+
+def aside_by_words(sheaf, end, demands, breadth):
+    """Return the sheets that point 42 sets aside."""
+    aside = []
+    for record, demand in demands.items():
+        sheets = [k for k, row in enumerate(sheaf.rows()) if row[1] == record and row[0] >= end]
+        sheets.sort(key=lambda k: (-sheaf.sharpness_of(k), k))
+        total = 0
+        while demand >= 1 and sheets and total < demand:
+            total += cap_by_words(sheaf.sharpness_of(sheets[0]), end, breadth)
+            aside.append(sheets.pop(0))
+    return sorted(aside)
+
+
+def reasons_by_words(sheaf, end, demands, breadth):
+    """Return all reasons of point 44 that hold, in the order of point 45."""
+    rows = sheaf.rows()
+    reasons = []
+    if sum(demands.values()) > len(rows):
+        reasons.append(("total", sum(demands.values())))
+    reach = sum(cap_by_words(sharpness, end, breadth) for sharpness, _ in rows)
+    if reach < len(rows):
+        reasons.append(("reach", reach))
+    for record in sorted(demands):
+        own = sum(cap_by_words(row[0], end, breadth) for row in rows if row[1] == record)
+        if own < demands[record]:
+            reasons.append(("record", record, own))
+    aside = aside_by_words(sheaf, end, demands, breadth)
+    for height in range(end, sheaf.top):
+        spare = [k for k, row in enumerate(rows) if row[0] <= height and k not in aside]
+        if len(spare) < height + 1 - end:
+            reasons.append(("height", height, len(spare)))
+    return reasons
+
+
+def complete_log(sheaf, breadth, chance):
+    """Return some complete log, and the rows that it leaves."""
+    return some_log(sheaf, breadth, chance, most=10 ** 6)
+
+
+def shares_of_rows(rows):
+    records = [record for _, record in rows]
+    return {record: records.count(record) for record in records}

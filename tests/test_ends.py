@@ -135,6 +135,7 @@ class TestEnds(unittest.TestCase):
         self.assertEqual(low_end(sheaf), 0)
         self.assertEqual([high_end(sheaf, breadth=b) for b in BREADTHS], [0, 1, 1, 1, 2, 2])
         self.assertEqual(high_end(sheaf), 0)
+        self.assertEqual(high_end(STAIRS), 1)
         self.assertEqual(possible_ends(sheaf, breadth=5), [0, 1, 2])
         self.assertEqual(possible_ends(sheaf), [0])
 

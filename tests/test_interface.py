@@ -46,6 +46,69 @@ FUNCTIONS = {
         "near_log(sheaf)",
         "far_log(sheaf)",
     ],
+    "changes": [
+        "with_sheet(sheaf, sharpness, record)",
+        "without_sheet(sheaf, index)",
+        "sharpened(sheaf, index, steps)",
+        "sheets_to_lower(sheaf, end)",
+        "lifts_to_raise(sheaf, end, *, breadth=1)",
+        "side_by_side(first_count, first_log, second_log)",
+    ],
+    "boxes": [
+        "box_ends(box, *, breadth=1)",
+        "sure_ends(box, *, breadth=1)",
+        "list_with_end(box, end, *, breadth=1)",
+        "list_without_end(box, end, *, breadth=1)",
+        "low_ends(box)",
+        "high_ends(box, *, breadth=1)",
+        "list_with_low(box, low)",
+        "list_with_high(box, high, *, breadth=1)",
+        "drops(counts)",
+        "kinds_with_drop(counts, drop)",
+    ],
+    "demands": [
+        "set_aside(sheaf, end, demands, *, breadth=1)",
+        "footing(sheaf, aside)",
+        "trouble(sheaf, end, demands, *, breadth=1)",
+        "can_meet(sheaf, end, demands, *, breadth=1)",
+        "met_ends(sheaf, demands, *, breadth=1)",
+    ],
+    "stages": [
+        "plan(sheaf, end, demands, *, breadth=1)",
+        "full_shares(sheaf, end, demands, *, breadth=1)",
+    ],
+    "lookers": [
+        "look_at_plan(sheaf, end, demands, log, *, breadth=1)",
+        "look_at_reason(sheaf, end, demands, reason, *, breadth=1)",
+    ],
+    "keeping": [
+        "keepsakes(sheaf, kept)",
+        "kept_floor(sheaf, kept)",
+        "kept_ends(sheaf, kept, *, breadth=1)",
+        "kept_floors(sheaf, kept, log, *, breadth=1)",
+        "most_kept(sheaf, end, *, breadth=1)",
+        "dearest_kept(sheaf, end, prices, *, breadth=1)",
+        "room(sheaf, end, height)",
+        "swap_choices(sheaf, end, kept, record, *, breadth=1)",
+        "greatest_share(sheaf, end, demands, record, *, breadth=1)",
+    ],
+    "wishes": [
+        "worths(sheaf, end, wish, *, breadth=1)",
+        "wish_trouble(sheaf, end, wish, *, breadth=1)",
+        "greatest_within(sheaf, end, wish, *, breadth=1)",
+        "grant(sheaf, end, wish, *, breadth=1)",
+        "look_at_short(sheaf, end, wish, reason, *, breadth=1)",
+    ],
+    "outcomes": [
+        "outcome_order(sheaf)",
+        "is_outcome(sheaf, end, numbers, *, breadth=1)",
+        "count_outcomes(sheaf, end, *, breadth=1)",
+        "outcome_at(sheaf, end, place, *, breadth=1)",
+        "place_of(sheaf, end, numbers, *, breadth=1)",
+        "next_outcome(sheaf, end, numbers, *, breadth=1)",
+        "each_outcome(sheaf, end, *, breadth=1)",
+        "count_with(sheaf, end, record, *, breadth=1)",
+    ],
 }
 SHEAF_METHODS = [
     "rows(self)", "sharpness_of(self, index)", "record_of(self, index)", "is_level(self)",
@@ -78,9 +141,11 @@ class TestInterface(unittest.TestCase):
         for name in ("top", "bottom"):
             self.assertIsInstance(vars(Sheaf)[name], property)
 
-    def test_each_state_is_a_generator(self):
+    def test_generators(self):
         from wornsheaf.deeds import each_state
+        from wornsheaf.outcomes import each_outcome
         self.assertTrue(inspect.isgeneratorfunction(each_state))
+        self.assertTrue(inspect.isgeneratorfunction(each_outcome))
 
 
 if __name__ == "__main__":

@@ -39,8 +39,10 @@ def no_sharper(sheaf, height):
 
 def low_end(sheaf):
     """Return the least end of a complete log."""
-    # Sharpnesses are integers: fainter than s is no sharper than s - 1.
-    return max([row[0] - no_sharper(sheaf, row[0] - 1) for row in sheaf])
+    # Of equally sharp sheets the first in rising order has just the fainter
+    # ones before it; the others have more before them and tell less.
+    rising = sorted([row[0] for row in sheaf])
+    return max([sharpness - place for place, sharpness in enumerate(rising)])
 
 
 def low_height(sheaf):
