@@ -212,3 +212,49 @@ def complete_log(sheaf, breadth, chance):
 def shares_of_rows(rows):
     records = [record for _, record in rows]
     return {record: records.count(record) for record in records}
+
+
+def shortest_by_search(sharpnesses, breadth, known):
+    """Return a dict that gives each end of a complete log the fewest deeds."""
+    state = tuple(sorted(sharpnesses))
+    if state not in known:
+        found = {state[0]: 0} if state[0] == state[-1] else {}
+        for later in states_after(tuple((sharpness, "") for sharpness in state), breadth):
+            told = [sharpness for sharpness, _ in later]
+            for end, length in shortest_by_search(told, breadth, known).items():
+                found[end] = min(found.get(end, length + 1), length + 1)
+        known[state] = found
+    return known[state]
+
+
+def longest_by_search(sharpnesses, known):
+    """Return the most deeds with one target that a log can have."""
+    state = tuple(sorted(sharpnesses))
+    if state not in known:
+        lengths = [0]
+        for later in states_after(tuple((sharpness, "") for sharpness in state), 1):
+            told = [sharpness for sharpness, _ in later]
+            lengths.append(1 + longest_by_search(told, known))
+        known[state] = max(lengths)
+    return known[state]
+
+
+def level_at(sheaf, end):
+    """Return whether all sheets have the end as their sharpness."""
+    return {sharpness for sharpness, _ in sheaf.rows()} == {end}
+
+
+def many_picks(chance, many, most=1000):
+    """Return that many picks."""
+    return [chance.randint(0, most) for _ in range(many)]
+
+
+def error_of(error, function, *things, **more):
+    """Return the error that the function raises."""
+    try:
+        function(*things, **more)
+    except error as caught:
+        if type(caught) is error:
+            return caught
+        raise AssertionError(f"{type(caught)} instead of {error}") from caught
+    raise AssertionError(f"{error} was not raised")

@@ -4,11 +4,13 @@ import unittest
 
 from tests.helpers import sheaf_of
 from wornsheaf import (
-    boxes, changes, deeds, demands, ends, keeping, lineage, lookers, notation, outcomes, stages,
-    steady, wishes,
+    boxes, changes, claims, contests, deeds, demands, ends, guide, keeping, lineage, longest,
+    lookers, notation, outcomes, rounds, shortest, stages, steady, traces, wishes,
 )
+from wornsheaf.desk import Desk, read_page
 from wornsheaf.errors import (
-    Impossible, InvalidBox, InvalidDeed, InvalidDemands, InvalidEntry, InvalidSheaf, UnknownRecord,
+    ContradictoryLog, Impossible, InvalidBox, InvalidDeed, InvalidDemands, InvalidEntry,
+    InvalidRound, InvalidSheaf, UnknownName, UnknownRecord,
 )
 from wornsheaf.sheaf import Sheaf
 
@@ -21,6 +23,51 @@ BOX = [(0, 2), (1, 1), (-1, 3)]
 DEMANDS = {"c": 2, "z": 0, "b": 1}
 WISH = {"c": (1, 2), "b": (0, 1), "z": (0, 0)}
 SHORT_WISH = {"b": (0, 0), "c": (0, 1)}
+RING_LOG = [(1, (0,)), (2, (3,)), (1, (0,))]
+ROUNDS = [[(1, (0,))], [], [(0, (3,))]]
+STEPS = [("p", (1, (0,))), ("q", (1, (0,))), ("p", (2, (1,)))]
+
+
+def desk_of_two():
+    desk = Desk()
+    desk.lay("p", STAIRS.rows())
+    desk.lay("q", STAIRS.rows())
+    return desk
+
+
+def worked_desk():
+    return read_page("p;0:a 1:b 2:c;1>0;2>1 2>0;0 c=2\nq;0:a 1:b;;;")
+
+
+def kept_desk(name, method, *things):
+    """Return what a method of a desk and then the page of the desk tell."""
+    desk = desk_of_two()
+    return getattr(desk, method)(name, *things), desk.page()
+
+
+def all_of_desk(steps):
+    """Return what a desk tells after these steps."""
+    desk = desk_of_two()
+    desk.run_all(steps)
+    return desk.page()
+
+
+def told_claim(claim):
+    return claim.kind, claim.end, claim.subject(), claim.paper()
+
+
+def waiting_contest():
+    contest = contests.Contest(STAIRS)
+    for index in (1, 0):
+        contest.choose(index)
+    return contest
+
+
+DESK = worked_desk()
+CONTEST = waiting_contest()
+MEETS = claims.Claim("meets", 1, {"c": 2}, [(2, (0,))])
+GRANTS = claims.Claim("grants", 1, {"c": (1, 2)}, {"c": 2, "b": 1})
+IN_ROUNDS = claims.Claim("rounds", 1, 1, [[(2, (0,))], []])
 
 # Questions that take a list or a dict: the answer, and what is handed in.
 ASKED = [
@@ -69,6 +116,32 @@ ASKED = [
     (lambda numbers: outcomes.is_outcome(STAIRS, 1, numbers), [[0, 1, 2]]),
     (lambda numbers: outcomes.place_of(STAIRS, 1, numbers), [[0, 1, 2]]),
     (lambda numbers: outcomes.next_outcome(STAIRS, 1, numbers), [[0, 1, 2]]),
+    (lambda log: traces.lines(4, log), [RING_LOG]),
+    (lambda log: traces.find_ring(4, log), [RING_LOG]),
+    (lambda log, ring: traces.is_ring(4, log, ring), [RING_LOG, [(2, 0)]]),
+    (lambda log: traces.least_start(4, log), [LOG]),
+    (lambda log: traces.told_gap(4, log, 1, 0), [LOG]),
+    (lambda log: traces.told_heights(4, log), [RING_LOG]),
+    (lambda log: shortest.lifts_across(SHEAF, log, 1, breadth=2), [LOG]),
+    (lambda told: rounds.play_rounds(SHEAF, told).rows(), [ROUNDS]),
+    (lambda kept: contests.Warden(kept)(STAIRS, 2), [["c", "z"]]),
+    (lambda picks: contests.Picker("target", picks)(STAIRS, 2), [[1, 2]]),
+    (lambda kept: contests.can_save(STAIRS, kept), [["c", "b"]]),
+    (lambda prices: contests.dearest_saved(STAIRS, prices), [{"c": 2, "b": 3, "a": 9}]),
+    (lambda told: guide.safe_deeds(STAIRS, 0, told), [{"c": 3, "z": 0}]),
+    (lambda log, told: guide.spoiled_at(STAIRS, log, 0, told), [[(2, (0,))], {"c": 3}]),
+    (lambda told, picks: guide.guided_log(STAIRS, 0, told, picks), [{"c": 3, "z": 0}, [1, 0, 7]]),
+    (lambda told, log: told_claim(claims.Claim("meets", 1, told, log)), [DEMANDS, LOG]),
+    (lambda told: told_claim(claims.Claim("rounds", 1, 3, told)), [ROUNDS]),
+    (lambda told: told_claim(claims.claim_demands(STAIRS, 1, told)), [DEMANDS]),
+    (lambda told: told_claim(claims.claim_demands(STAIRS, 1, told)), [{"c": 2, "z": 0}]),
+    (lambda wish: told_claim(claims.claim_wish(STAIRS, 1, wish)), [WISH]),
+    (lambda wish: told_claim(claims.claim_wish(STAIRS, 1, wish)), [SHORT_WISH]),
+    (lambda rows: kept_desk("r", "lay", rows), [ROWS]),
+    (lambda told: kept_desk("p", "set_goal", 1, told), [{"c": 2, "z": 0}]),
+    (lambda log: kept_desk("p", "run", log), [[(1, (0,)), (2, (1,))]]),
+    (lambda steps: all_of_desk(steps), [STEPS]),
+    (lambda told: told_claim(kept_desk("p", "answer", 1, told)[0]), [DEMANDS]),
 ]
 
 # Questions that are answered with a list or a dict.
@@ -132,11 +205,55 @@ ANSWERED = {
     "next_outcome": lambda: outcomes.next_outcome(sheaf_of(0, 0, 1), 0, [0, 1, 2]),
     "each_outcome": lambda: list(outcomes.each_outcome(sheaf_of(0, 0, 1), 0)),
     "the first of each_outcome": lambda: next(outcomes.each_outcome(STAIRS, 0)),
+    "lines": lambda: traces.lines(4, LOG),
+    "no lines": lambda: traces.lines(4, []),
+    "find_ring": lambda: traces.find_ring(4, RING_LOG),
+    "least_start": lambda: traces.least_start(4, LOG),
+    "told_heights": lambda: traces.told_heights(4, RING_LOG),
+    "crossings": lambda: shortest.crossings(STAIRS, 0),
+    "shortest_log": lambda: shortest.shortest_log(STAIRS, 0),
+    "no shortest_log": lambda: shortest.shortest_log(sheaf_of(1, 1), 1),
+    "longest_log": lambda: longest.longest_log(STAIRS),
+    "no longest_log": lambda: longest.longest_log(sheaf_of(1, 1)),
+    "round_plan": lambda: rounds.round_plan(sheaf_of(0, 0, 0, 4), 2),
+    "no round_plan": lambda: rounds.round_plan(STAIRS, 0),
+    "done": lambda: CONTEST.done(),
+    "choices": lambda: CONTEST.choices(),
+    "play": lambda: contests.play(
+        waiting_contest(), contests.LowSide("source"), contests.Picker("target", []),
+    ),
+    "play of a contest that is over": lambda: contests.play(CONTEST_OVER, None, None),
+    "dearest_saved": lambda: contests.dearest_saved(STAIRS, {"c": 2}),
+    "safe_deeds": lambda: guide.safe_deeds(STAIRS, 0, {"c": 3}),
+    "guided_log": lambda: guide.guided_log(STAIRS, 0, {"c": 3}, []),
+    "demands of a claim": lambda: MEETS.subject(),
+    "log of a claim": lambda: MEETS.paper(),
+    "wish of a claim": lambda: GRANTS.subject(),
+    "shares of a claim": lambda: GRANTS.paper(),
+    "rounds of a claim": lambda: IN_ROUNDS.paper(),
+    "claim_demands": lambda: claims.claim_demands(STAIRS, 1, {"c": 2}).paper(),
+    "claim_wish": lambda: claims.claim_wish(STAIRS, 1, WISH).paper(),
+    "claim_shortest": lambda: claims.claim_shortest(STAIRS, 0).paper(),
+    "claim_rounds": lambda: claims.claim_rounds(sheaf_of(0, 0, 0, 4), 2).paper(),
+    "names": lambda: DESK.names(),
+    "journal": lambda: DESK.journal("p"),
+    "empty journal": lambda: DESK.journal("q"),
+    "undone": lambda: DESK.undone("p"),
+    "nothing undone": lambda: DESK.undone("q"),
+    "demands of a goal": lambda: DESK.goal("p")[1],
+    "finish": lambda: worked_desk().finish("p"),
+    "answer": lambda: DESK.answer("p", 0, {"c": 2}).paper(),
 }
+CONTEST_OVER = contests.Contest(sheaf_of(0, 1))
+contests.play(CONTEST_OVER, contests.LowSide("source"), contests.LowSide("target"))
 
 
 def spoil(thing):
-    """Change a list or a dict in every way that is at hand."""
+    """Change a list or a dict in every way that is at hand, lists in it first."""
+    if isinstance(thing, list):
+        for item in thing:
+            if isinstance(item, (list, dict)):
+                spoil(item)
     if isinstance(thing, dict):
         for key in thing:
             thing[key] = -99
@@ -186,6 +303,16 @@ class TestCopies(unittest.TestCase):
             (UnknownRecord, lambda told: keeping.dearest_kept(STAIRS, 1, told), {"z": 1, "c": 2}),
             (InvalidBox, lambda told: boxes.box_ends(told), [(0, 1), (1, 0)]),
             (InvalidDeed, lambda told: keeping.kept_floors(STAIRS, [], told), list(BAD_LOG)),
+            (ContradictoryLog, lambda told: traces.least_start(4, told), RING_LOG),
+            (InvalidDeed, lambda told: traces.find_ring(4, told), BAD_LOG),
+            (InvalidDeed, lambda told: shortest.lifts_across(SHEAF, told, 0), BAD_LOG),
+            (InvalidRound, lambda told: rounds.play_rounds(STAIRS, told), ROUNDS + [LOG]),
+            (UnknownRecord, lambda told: contests.can_save(STAIRS, told), ["c", "z"]),
+            (Impossible, lambda told: guide.guided_log(STAIRS, 1, told, []), {"a": 1, "z": 0}),
+            (InvalidDeed, lambda told: DESK.run("p", told), BAD_LOG),
+            (UnknownName, lambda told: desk_of_two().run_all(told), STEPS + [("r", (1, (0,)))]),
+            (Impossible, lambda told: DESK.set_goal("p", 0, told), {"a": 1, "z": 0}),
+            (InvalidSheaf, lambda told: DESK.lay("r", told), ROWS + [(0, "")]),
         ]
         for error, ask, told in refused:
             handed = copy.deepcopy(told)

@@ -164,6 +164,17 @@ class TestLogs(unittest.TestCase):
         with self.assertRaises(InvalidDeed):
             replay(self.SHEAF, log)
 
+    def test_breadth_left_out_is_1(self):
+        deed = (4, (3, 6))
+        for ask in (
+            lambda: apply_deed(WIDE, deed), lambda: replay(WIDE, [deed]),
+            lambda: list(each_state(WIDE, [deed])),
+        ):
+            with self.assertRaises(InvalidDeed) as caught:
+                ask()
+            self.assertEqual(caught.exception.position, 0)
+        self.assertIs(is_complete(sheaf_of(0, 0, 1), [(2, (0, 1))]), False)
+
     def test_random_logs(self):
         chance = Random(5)
         for sheaf in some_sheaves(11, 60, most_sheets=12, span=5):

@@ -188,8 +188,9 @@ class TestForm(unittest.TestCase):
                 self.assertIsInstance(node.exc, ast.Call, where)
                 self.assertIsInstance(node.exc.func, ast.Name, where)
         for where, node in nodes(ast.ExceptHandler):
-            self.assertIsInstance(node.type, ast.Name, where)
-            self.assertNotIn(node.type.id, BUILTINS, where)
+            for name in getattr(node.type, "elts", [node.type]):
+                self.assertIsInstance(name, ast.Name, where)
+                self.assertNotIn(name.id, BUILTINS, where)
 
     def test_l7_l20_l27_expressions(self):
         self.assertEqual(nodes(ast.GeneratorExp, ast.Await, ast.Div, ast.NamedExpr), [])

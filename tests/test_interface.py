@@ -109,12 +109,77 @@ FUNCTIONS = {
         "each_outcome(sheaf, end, *, breadth=1)",
         "count_with(sheaf, end, record, *, breadth=1)",
     ],
+    "traces": [
+        "lines(count, log)",
+        "find_ring(count, log)",
+        "is_ring(count, log, ring)",
+        "least_start(count, log)",
+        "told_gap(count, log, upper, lower)",
+        "told_heights(count, log)",
+    ],
+    "shortest": [
+        "crossings(sheaf, end, *, breadth=1)",
+        "shortest_length(sheaf, end, *, breadth=1)",
+        "shortest_log(sheaf, end, *, breadth=1)",
+        "lifts_across(sheaf, log, height, *, breadth=1)",
+        "quickest_end(sheaf, *, breadth=1)",
+    ],
+    "longest": [
+        "own_low(sheaf, index)",
+        "deeds_left(sheaf)",
+        "longest_log(sheaf)",
+    ],
+    "rounds": [
+        "play_rounds(sheaf, rounds, *, breadth=1)",
+        "round_weight(sheaf, end, count, *, breadth=1)",
+        "fewest_rounds(sheaf, end, *, breadth=1)",
+        "round_plan(sheaf, end, *, breadth=1)",
+    ],
+    "contests": [
+        "play(contest, source_side, target_side)",
+        "can_save(sheaf, kept)",
+        "dearest_saved(sheaf, prices)",
+    ],
+    "guide": [
+        "safe_deeds(sheaf, end, demands)",
+        "spoiled_at(sheaf, log, end, demands)",
+        "guided_log(sheaf, end, demands, picks)",
+    ],
+    "claims": [
+        "look(sheaf, claim, *, breadth=1)",
+        "claim_demands(sheaf, end, demands, *, breadth=1)",
+        "claim_wish(sheaf, end, wish, *, breadth=1)",
+        "claim_shortest(sheaf, end, *, breadth=1)",
+        "claim_rounds(sheaf, end, *, breadth=1)",
+    ],
+    "desk": ["read_page(text, *, breadth=1)"],
 }
-SHEAF_METHODS = [
-    "rows(self)", "sharpness_of(self, index)", "record_of(self, index)", "is_level(self)",
-    "records(self)", "shares(self)", "sheets_of(self, record)", "__init__(self, rows)",
-    "__len__(self)", "__iter__(self)", "__eq__(self, other)", "__add__(self, other)",
-]
+METHODS = {
+    ("sheaf", "Sheaf"): [
+        "rows(self)", "sharpness_of(self, index)", "record_of(self, index)", "is_level(self)",
+        "records(self)", "shares(self)", "sheets_of(self, record)", "__init__(self, rows)",
+        "__len__(self)", "__iter__(self)", "__eq__(self, other)", "__add__(self, other)",
+    ],
+    ("contests", "Contest"): [
+        "__init__(self, sheaf, *, first='source')", "current(self)", "done(self)",
+        "choices(self)", "choose(self, index)",
+    ],
+    ("contests", "LowSide"): ["__init__(self, half)", "__call__(self, sheaf, named)"],
+    ("contests", "Warden"): ["__init__(self, kept)", "__call__(self, sheaf, named)"],
+    ("contests", "Picker"): ["__init__(self, half, picks)", "__call__(self, sheaf, named)"],
+    ("claims", "Claim"): [
+        "__init__(self, kind, end, subject, paper)", "subject(self)", "paper(self)",
+    ],
+    ("desk", "Desk"): [
+        "__init__(self, *, breadth=1)", "lay(self, name, rows)", "drop(self, name)",
+        "names(self)", "sheaf(self, name)", "start(self, name)", "journal(self, name)",
+        "undone(self, name)", "goal(self, name)", "set_goal(self, name, end, demands)",
+        "release(self, name)", "do(self, name, deed)", "run(self, name, log)",
+        "run_all(self, steps)", "undo(self, name)", "redo(self, name)", "finish(self, name)",
+        "bind(self, first, second, name)", "answer(self, name, end, demands)", "page(self)",
+    ],
+}
+PROPERTIES = {("sheaf", "Sheaf"): ["top", "bottom"], ("contests", "Contest"): ["waiting", "held"]}
 
 
 def told(function):
@@ -132,14 +197,23 @@ class TestInterface(unittest.TestCase):
                     self.assertEqual(told(function), line)
                     self.assertEqual(function.__module__, f"wornsheaf.{name}")
 
-    def test_sheaf(self):
-        from wornsheaf.sheaf import Sheaf
-        self.assertEqual(Sheaf.__module__, "wornsheaf.sheaf")
-        for line in SHEAF_METHODS:
-            with self.subTest(line):
-                self.assertEqual(told(vars(Sheaf)[line.partition("(")[0]]), line)
-        for name in ("top", "bottom"):
-            self.assertIsInstance(vars(Sheaf)[name], property)
+    def test_methods_stand_in_their_classes(self):
+        for (module, name), wanted in METHODS.items():
+            made = getattr(importlib.import_module(f"wornsheaf.{module}"), name)
+            self.assertEqual(made.__module__, f"wornsheaf.{module}")
+            for line in wanted:
+                with self.subTest(name=name, method=line):
+                    self.assertEqual(told(vars(made)[line.partition("(")[0]]), line)
+            for word in PROPERTIES.get((module, name), []):
+                self.assertIsInstance(vars(made)[word], property)
+
+    def test_attributes(self):
+        from wornsheaf.claims import Claim
+        from wornsheaf.desk import Desk, read_page
+        claim = Claim("meets", 4, {}, [])
+        self.assertEqual((vars(claim)["kind"], vars(claim)["end"]), ("meets", 4))
+        self.assertEqual(vars(Desk(breadth=3))["breadth"], 3)
+        self.assertEqual(vars(read_page("", breadth=3))["breadth"], 3)
 
     def test_generators(self):
         from wornsheaf.deeds import each_state

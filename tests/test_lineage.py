@@ -104,6 +104,11 @@ class TestEntries(unittest.TestCase):
                 apply_with_entry(self.SHEAF, deed, breadth=breadth)
             self.assertEqual(caught.exception.position, 0)
 
+    def test_breadth_left_out_is_1(self):
+        with self.assertRaises(InvalidDeed) as caught:
+            apply_with_entry(self.SHEAF, (3, (0, 2)))
+        self.assertEqual(caught.exception.position, 0)
+
     def test_undone_one_after_the_other(self):
         chance = Random(31)
         for sheaf in some_sheaves(32, 30, most_sheets=10, span=5):

@@ -1,5 +1,5 @@
 """Demands: how many sheets each record is to have at the end, and what is against it."""
-from wornsheaf.ends import cap, possible_ends, reach, record_reach
+from wornsheaf.ends import cap, possible_ends
 from wornsheaf.errors import Impossible, InvalidDemands
 
 
@@ -8,6 +8,11 @@ def check_demands(demands):
     for record in sorted(demands):
         if demands[record] < 0:
             raise InvalidDemands(record)
+
+
+def without_zeros(demands):
+    """Return the demands without the records whose demand is 0."""
+    return {record: demands[record] for record in demands if demands[record] != 0}
 
 
 def require(sheaf, end, demands, *, breadth=1):
@@ -37,12 +42,23 @@ def _taken(sheaf, end, record, demand, breadth):
     taken = []
     gathered = 0
     for index in falling_sheets(sheaf, record):
-        found = cap(sheaf.sharpness_of(index), end, breadth=breadth)
+        found = _cap_up_to(sheaf.sharpness_of(index), end, demand, breadth)
         if gathered >= demand or found == 0:
             break
         taken.append(index)
         gathered += found
     return taken
+
+
+def _cap_up_to(sharpness, end, most, breadth):
+    """Return the cap, or some number above most if the cap is above most."""
+    # So many steps already lead above most; the power of far more is not needed.
+    return cap(min(sharpness, end + most), end, breadth=breadth)
+
+
+def _reach_up_to(rows, end, most, breadth):
+    """Return the sum of the caps, or some number above most if one is above most."""
+    return sum([_cap_up_to(row[0], end, most, breadth) for row in rows])
 
 
 def spare_sharpnesses(sheaf, aside):
@@ -63,11 +79,12 @@ def trouble(sheaf, end, demands, *, breadth=1):
     total = sum([demands[record] for record in demands])
     if total > len(sheaf):
         return ("total", total)
-    reached = reach(sheaf, end, breadth=breadth)
+    reached = _reach_up_to(sheaf.rows(), end, len(sheaf), breadth)
     if reached < len(sheaf):
         return ("reach", reached)
     for record in sorted(demands):
-        amount = record_reach(sheaf, record, end, breadth=breadth)
+        borne = [row for row in sheaf if row[1] == record]
+        amount = _reach_up_to(borne, end, demands[record], breadth)
         if amount < demands[record]:
             return ("record", record, amount)
     return _height_trouble(sheaf, end, set_aside(sheaf, end, demands, breadth=breadth))

@@ -15,12 +15,25 @@ def check_log(count, log):
 def lineage(count, log):
     """Return the tuple `(origin, wear)` of each sheet after the log."""
     check_log(count, log)
-    marks = [(index, 0) for index in range(count)]
-    for source, targets in log:
-        origin, wear = marks[source]
-        for index in (source, *targets):
-            marks[index] = (origin, wear + 1)
+    marks = first_marks(count)
+    for deed in log:
+        marks = marks_after(marks, deed)
     return marks
+
+
+def first_marks(count):
+    """Return the tuple `(origin, wear)` of each sheet before the first deed."""
+    return [(index, 0) for index in range(count)]
+
+
+def marks_after(marks, deed):
+    """Return the tuples `(origin, wear)` after a deed that is well formed."""
+    source, targets = deed
+    origin, wear = marks[source]
+    after = list(marks)
+    for index in (source, *targets):
+        after[index] = (origin, wear + 1)
+    return after
 
 
 def first_shares(count, log):

@@ -35,7 +35,7 @@ def parse_sheaf(text):
     rows = []
     for position, word in enumerate(text.split(" ")):
         sharpness, _, record = word.partition(":")
-        if not _is_signed_number(sharpness) or not valid_record(record):
+        if not is_signed_number(sharpness) or not valid_record(record):
             raise InvalidText(position)
         rows.append((int(sharpness), record))
     return Sheaf(rows)
@@ -103,7 +103,7 @@ def _is_number(text):
     return text == "0" or text[0] != "0"
 
 
-def _is_signed_number(text):
+def is_signed_number(text):
     """Return whether the text is a number, or a minus and a number but 0."""
     if text.startswith("-"):
         return text != "-0" and _is_number(text[1:])
